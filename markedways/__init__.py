@@ -1,0 +1,1 @@
+"""Programs of a network, alike for all packets."""

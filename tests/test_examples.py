@@ -1,0 +1,24 @@
+import unittest
+
+from markedways.programs import Program
+
+
+class DocumentExamples(unittest.TestCase):
+    def test_door_and_hall(self):
+        door = Program(["at", "tag"], ("row", ("is", "at", 1), ("mark",), ("set", "at", 2)))
+        hall = Program(["tag", "at"], ("row", ("is", "at", 2), ("mark",), ("take", "tag", "at"), ("set", "at", 1)))
+        walk = (door + hall).loop()
+        self.assertEqual(walk.tree, ("loop", ("choice", door.tree, hall.tree)))
+        self.assertEqual(walk.fields, ("at", "tag"))
+        self.assertEqual((walk.marks, walk.numbers), (2, (1, 2)))
+        self.assertEqual(walk((1, 7)), [(1, 2), (1, 7), (2, 2), (2, 7)])
+
+    def test_few_and_all_ones(self):
+        few, all_ones = Program(["a"], ("choice", ("is", "a", 1), ("is", "a", 2))), Program(["a"], ("pass",))
+        self.assertEqual([few.holds((n,)) for n in (0, 1, 2, 3)], [False, True, True, False])
+        self.assertEqual([all_ones.holds((n,)) for n in (0, 1, 2, 3)], [True] * 4)
+        self.assertEqual([few((n,)) for n in (0, 1)], [[], [(1,)]])
+
+
+if __name__ == "__main__":
+    unittest.main()
