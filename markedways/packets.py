@@ -1,6 +1,6 @@
 """Fields and packets, the samples that stand for all packets, and sets of packets."""
 
-from markedways.errors import BadFields, BadNumbers
+from markedways.errors import BadFields, BadMost, BadNumbers, BadPacket
 
 LETTERS = "abcdefghijklmnopqrstuvwxyz"
 BARRED = ("pass", "drop", "mark", "not")
@@ -54,6 +54,18 @@ def is_packet(fields, thing):
     if not isinstance(thing, tuple) or len(thing) != len(names):
         return False
     return all([is_count(number) for number in thing])
+
+
+def need_packet(fields, thing):
+    """BadPacket for any value that is no packet of these fields."""
+    if not is_packet(fields, thing):
+        raise BadPacket(thing)
+
+
+def need_most(thing, bound):
+    """BadMost for any value that is no number from 0 to the bound."""
+    if not is_count(thing) or thing > bound:
+        raise BadMost(thing)
 
 
 def spares(fields, numbers):

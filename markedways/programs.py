@@ -1,7 +1,7 @@
 """Trees, tests and programs, and the packets at which a program ends."""
 
-from markedways.errors import BadPacket, BadTest, BadTree, OtherFields, TooMany
-from markedways.packets import Crowds, MOST_NUMBERS, ascending_fields, is_count, is_field, is_packet
+from markedways.errors import BadProgram, BadTest, BadTree, OtherFields, TooMany
+from markedways.packets import Crowds, MOST_NUMBERS, ascending_fields, is_count, is_field, need_packet
 
 MOST_LEVELS = 12
 MOST_TREES = 4000
@@ -163,8 +163,7 @@ class Flow:
 
 def spliced(word, one, other):
     """The Program of both trees under this word; inner trees stand for a tree of this word."""
-    if one.fields != other.fields:
-        raise OtherFields("the programs have different fields")
+    need_fields(one.fields, other)
     return Program(one.fields, (word,) + under(word, one.tree) + under(word, other.tree))
 
 
@@ -234,8 +233,7 @@ class Program:
 
     def __call__(self, packet):
         """The ascending list of the ends of all courses from this packet, each once."""
-        if not is_packet(self._fields, packet):
-            raise BadPacket(packet)
+        need_packet(self._fields, packet)
         crowds = Crowds(self._fields, sorted(set(self._numbers + packet)))
         flow = Flow(self._tree, crowds)
         return crowds.packets(flow.after(crowds.of_packet(packet)))
@@ -244,6 +242,30 @@ class Program:
         """Whether the packet satisfies the tree, a test."""
         if not is_test(self._tree):
             raise BadTest("program")
-        if not is_packet(self._fields, packet):
-            raise BadPacket(packet)
+        need_packet(self._fields, packet)
         return satisfies(self._fields, self._tree, packet)
+
+
+def need_program(thing, part):
+    """BadProgram, with the name of the parameter, for any value that is no Program."""
+    if not isinstance(thing, Program):
+        raise BadProgram(part)
+
+
+def need_test(thing, part):
+    """BadTest, with the name of the parameter, for any value that is no Program of a test."""
+    if not isinstance(thing, Program) or not is_test(thing.tree):
+        raise BadTest(part)
+
+
+def need_fields(fields, program):
+    """OtherFields for a Program that has other fields than these."""
+    if program.fields != fields:
+        raise OtherFields("the program has other fields than what stands ahead of it")
+
+
+def joint_numbers(programs):
+    """The numbers that the Programs name together, ascending; TooMany if they are too many."""
+    numbers = sorted(set([number for program in programs for number in program.numbers]))
+    allow(len(numbers), "numbers", MOST_NUMBERS)
+    return numbers

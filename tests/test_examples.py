@@ -1,6 +1,9 @@
 import unittest
 
+from markedways.likeness import parting, within
 from markedways.programs import Program
+from markedways.rounds import most_marks, weakest_gate
+from markedways.ways import ways
 
 
 class DocumentExamples(unittest.TestCase):
@@ -12,12 +15,17 @@ class DocumentExamples(unittest.TestCase):
         self.assertEqual(walk.fields, ("at", "tag"))
         self.assertEqual((walk.marks, walk.numbers), (2, (1, 2)))
         self.assertEqual(walk((1, 7)), [(1, 2), (1, 7), (2, 2), (2, 7)])
+        self.assertEqual(ways(walk, (1, 7), 2), [((1, 7),), ((1, 7), (2, 7)), ((1, 7), (2, 7), (1, 2))])
 
     def test_few_and_all_ones(self):
         few, all_ones = Program(["a"], ("choice", ("is", "a", 1), ("is", "a", 2))), Program(["a"], ("pass",))
         self.assertEqual([few.holds((n,)) for n in (0, 1, 2, 3)], [False, True, True, False])
         self.assertEqual([all_ones.holds((n,)) for n in (0, 1, 2, 3)], [True] * 4)
         self.assertEqual([few((n,)) for n in (0, 1)], [[], [(1,)]])
+        self.assertEqual((within(few, all_ones), parting(few, all_ones)), (True, ((0,), ((0,),), 1)))
+        gate = weakest_gate(few, Program(["a"], ("is", "a", 2)))
+        self.assertEqual(([gate.holds((n,)) for n in (0, 1, 2, 3)], most_marks(few, all_ones)),
+                         ([True, True, False, True], 0))
 
 
 if __name__ == "__main__":

@@ -9,6 +9,10 @@ INTERFACE = {
     "errors": ["WayError"],
     "packets": ["is_field", "is_packet", "spares", "samples"],
     "programs": ["is_tree", "is_test", "Program"],
+    "ways": ["ways", "is_way", "steps", "ends"],
+    "likeness": ["alike", "within", "has_ways", "parting", "beyond", "table", "is_table"],
+    "machines": ["least_machine", "machine_ways"],
+    "rounds": ["weakest_gate", "most_marks", "ring", "is_ring", "all_ways"],
 }
 METHODS = ["fields", "numbers", "tree", "marks", "__add__", "__rshift__", "__invert__", "loop", "__eq__", "__call__",
            "holds"]

@@ -21,3 +21,12 @@ def odd_values():
         Program(["a"], ("pass",)), [Program(["a"], ("pass",))], (Program(["a"], ("pass",)),),
         {"a": Program(["a"], ("pass",))}, BadPacket(1), [BadPacket(1)],
     ]
+
+
+def no_programs():
+    """Such values, none of which is a Program."""
+    return [thing for thing in odd_values() if not isinstance(thing, Program)]
+
+
+NO_MOSTS = [True, False, -1, 10 ** 99, None, "1", "", (), [], {}, (1,), [1], {1: 1}, ((1,),)]
+NO_PLACES = [True, False, -1, 10 ** 99, None, "0", "", (), [], {}, (0,), [0], {0: 0}]
