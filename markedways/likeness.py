@@ -17,7 +17,7 @@ def need_pair(one, other):
 
 def need_word(word):
     """BadWord for any value that is no word of tables."""
-    if not isinstance(word, str) or word not in WORDS:
+    if word not in WORDS:
         raise BadWord(word)
 
 

@@ -33,7 +33,7 @@ def gate_tree(found, named, good):
     The numbers of the first field that go with the same rest of the sample are tested together:
     with eight numbers and three fields, there are at most 1100 trees in 7 levels.
     """
-    if len(good) == 0 or len(found) == 0:
+    if len(found) == 0:
         return ("pass",) if len(good) > 0 else ("drop",)
     field = list(found)[0]
     inner = {name: found[name] for name in found if name != field}
@@ -130,8 +130,9 @@ class Rounds:
     def _first_step(self, pair, crowds):
         """The least step from the pair into these crowds."""
         sight = self.courses.sight(pair[1], (pair[0],))
-        mark = [mark for mark in range(1, len(sight)) if sight[mark] & crowds[mark] != 0][0]
-        return (mark, slots_in(sight[mark] & crowds[mark])[0])
+        found = [sight[mark] & crowds[mark] for mark in range(1, len(sight))]
+        least = [index for index, crowd in enumerate(found) if crowd != 0][0]
+        return (least + 1, slots_in(found[least])[0])
 
     def told(self, pairs):
         """The tuple of the pairs with their packets instead of the slots."""
@@ -160,7 +161,7 @@ def ring(program, source):
         return None
     before, turn = rounds.to_round()
     behind = rounds.to_end(turn[-1])
-    place, slot = [*turn, *behind][-1]
+    place, slot = (turn + behind)[-1]
     end = rounds.courses.last_packets((slot, (place,)))[0]
     packet = rounds.courses.ground.members[rounds.endless_start()]
     return (packet, rounds.told(before), rounds.told(turn), rounds.told(behind), end)

@@ -145,7 +145,8 @@ class Stretch:
         self.ground = ground
         self.last = place + 1 if tree[0] == "mark" else place
         self.inner = []
-        for part in () if tree[0] == "not" else inner_trees(tree):
+        parts = () if tree[0] == "not" else inner_trees(tree)
+        for part in parts:
             self.inner.append(Stretch(part, ground, self.last))
             self.last = self.inner[-1].last
         self.has_marks = self.last > place
@@ -245,8 +246,10 @@ class Courses:
             found = wider
 
     def sight(self, slot, places):
-        """What comes next at any of these places with this packet: a tuple of the crowd of the ends and,
-        mark by mark, the crowd of what is written down there."""
+        """What comes next at any of these places with this packet.
+
+        A tuple of the crowd of the ends and, mark by mark, the crowd of what is written down there.
+        """
         found = [0 for _ in range(self.last + 1)]
         for place in places:
             for key, rows in self.outlooks[place].items():
