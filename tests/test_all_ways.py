@@ -62,6 +62,7 @@ class AllWays(unittest.TestCase):
                 counts[is_finite] += 1
                 if is_finite and most_marks(program, Program(program.fields, PASS)) is not None:
                     self.assertEqual(list(all_ways(program, packet)), told)
+                    self.assertEqual(sorted({way[-1] for way in told}), program(packet))
         self.assertGreater(min(counts.values()), 9)
 
     def test_each_as_soon_as_it_is_found(self):
