@@ -22,16 +22,20 @@ def need_word(word):
 
 
 class Comparison:
-    """Two programs on one ground, compared by a word.
+    """The Courses of two programs on one ground, compared by a word.
 
     A triple is a slot, ascending places of the one and ascending places of the other program.
     """
 
-    def __init__(self, one, other, word, starts):
+    def __init__(self, one, other, word):
         self.word = word
-        self.ground = Ground(one.fields, all_trees(one.tree) + all_trees(other.tree), starts)
-        self.one = Courses(one, self.ground)
-        self.other = Courses(other, self.ground)
+        self.ground = one.ground
+        self.one = one
+        self.other = other
+
+    def first(self, packet):
+        """The triple at the beginning with the packet."""
+        return (self.ground.slots[packet], (0,), (0,))
 
     def view(self, triple):
         """What comes next at a triple, by the one and by the other program."""
@@ -55,16 +59,24 @@ class Comparison:
         return (self.ground.members[triple[0]],) + triple[1:]
 
 
+def compared(one, other, word, starts):
+    """The Comparison of two programs for these packets and all that they may come to."""
+    ground = Ground(one.fields, all_trees(one.tree) + all_trees(other.tree), starts)
+    return Comparison(Courses(one, ground), Courses(other, ground), word)
+
+
 class Search:
     """All triples that a comparison requires for these packets, up to the first one that parts the programs.
 
     They are met by the number of marks, those with the same number by the packets that lead to
     them, the first packet first. So the first one that parts the programs has the least way.
+    What is searched need not be a Comparison: it has a ground, first, view, excess and next_triples,
+    the first item of a view being a sight.
     """
 
     def __init__(self, comparison, starts):
         self.comparison = comparison
-        self.met = [(comparison.ground.slots[packet], (0,), (0,)) for packet in starts]
+        self.met = [comparison.first(packet) for packet in starts]
         self.origins = {triple: () for triple in self.met}
         self.parted = None
         viewed = {}
@@ -102,7 +114,7 @@ class Search:
 def searched(one, other, word):
     """The Search through the samples of the numbers that both programs name."""
     starts = samples(one.fields, joint_numbers([one, other]))
-    return Search(Comparison(one, other, word, starts), starts)
+    return Search(compared(one, other, word, starts), starts)
 
 
 def alike(one, other):
@@ -169,7 +181,7 @@ def comparisons_of(one, other, word, starts, packets):
     homes = {}
     for some in [starts, *[[packet] for packet in packets]]:
         if some[0] not in homes:
-            comparison = Comparison(one, other, word, some)
+            comparison = compared(one, other, word, some)
             for member in comparison.ground.members:
                 homes[member] = comparison
     return homes

@@ -59,6 +59,11 @@ def own_fields(tree):
     return tree[1:] if tree[0] == "take" else ()
 
 
+def has_fields(fields, trees):
+    """Whether these trees, inner trees not counted, have no other fields than these."""
+    return all([field in fields for tree in trees for field in own_fields(tree)])
+
+
 def named_numbers(trees):
     """The numbers that these trees name, inner trees not counted, as an ascending tuple."""
     return tuple(sorted(set([tree[2] for tree in trees if tree[0] in ("is", "set")])))
@@ -180,7 +185,7 @@ class Program:
         if not is_tree(tree):
             raise BadTree("no tree")
         trees = all_trees(tree)
-        if not all([field in self._fields for part in trees for field in own_fields(part)]):
+        if not has_fields(self._fields, trees):
             raise BadTree("a tree of other fields")
         self._tree = tree
         self._marks = len([part for part in trees if part[0] == "mark"])

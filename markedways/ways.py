@@ -212,7 +212,7 @@ class Courses:
         # What is written down where no end is come to is no entry of a course.
         self.live = self.coming_to(ground.full)
         self.outlooks = [self._with_live(outlook) for outlook in self.outlooks]
-        self.exact = [self._ending_in(ground.full)]
+        self.exact = [self.ending_in(ground.full)]
         self.fans = {}
 
     def _with_live(self, outlook):
@@ -221,7 +221,7 @@ class Courses:
             found[key] = rows if key == 0 else [row & self.live[key] for row in rows]
         return found
 
-    def _ending_in(self, crowd):
+    def ending_in(self, crowd):
         """Place by place, the crowd of those that end within this one without marks."""
         return [crowd_where([row & crowd for row in outlook.get(0, [])]) for outlook in self.outlooks]
 
@@ -238,7 +238,7 @@ class Courses:
 
     def coming_to(self, crowd):
         """Place by place, the crowd of those from which courses go on that end within this one."""
-        found = self._ending_in(crowd)
+        found = self.ending_in(crowd)
         while True:
             wider = [some | more for some, more in zip(found, self.leading_to(found))]
             if wider == found:

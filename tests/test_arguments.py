@@ -4,8 +4,11 @@ import unittest
 from markedways.errors import BadProgram, OtherFields, TooMany
 from markedways.likeness import alike, beyond, has_ways, is_table, parting, table, within
 from markedways.machines import least_machine, machine_ways
+from markedways.meeting import dodging, keeps, meeting_gate, meets
+from markedways.parts import idle_lots, idle_parts, part_at, parts, struck, without
 from markedways.programs import Program
 from markedways.rounds import all_ways, is_ring, most_marks, ring, weakest_gate
+from markedways.slices import are_apart, leak, sliced
 from markedways.ways import ends, is_way, steps, ways
 from samplers import MARK, PASS, at, choice, loop, pair, put, row, solo, trio, walk
 from test_programs import raised
@@ -32,6 +35,19 @@ CALLS = [
     (most_marks, ["program", "source"], [walk(), ANY]),
     (ring, ["program", "source"], [walk(), ANY]),
     (is_ring, ["program", "source", "thing"], [walk(), ANY, ring(walk(), ANY)]),
+    (meets, ["fields", "way", "via"], [["tag", "at"], ((1, 7), (2, 7)), [ANY]]),
+    (keeps, ["program", "source", "goal", "via"], [walk(), ANY, ANY, [ANY, ANY]]),
+    (dodging, ["program", "source", "goal", "via"], [walk(), ANY, ANY, [ANY, ANY]]),
+    (meeting_gate, ["program", "goal", "via"], [walk(), ANY, [ANY, ANY]]),
+    (leak, ["one", "other"], [walk(), ANY]),
+    (are_apart, ["one", "other"], [walk(), ANY]),
+    (sliced, ["program", "into", "out"], [walk(), ANY, ANY]),
+    (part_at, ["program", "path"], [walk(), (0, 1)]),
+    (parts, ["program"], [walk()]),
+    (without, ["program", "path"], [walk(), (0, 1)]),
+    (idle_parts, ["program"], [walk() + walk()]),
+    (struck, ["program", "lot"], [walk(), ((0, 0), (0, 1))]),
+    (idle_lots, ["program"], [walk() + walk()]),
 ]
 PAIRS = [(alike, ()), (within, ()), (parting, ()), (beyond, ()), (table, ("alike",)), (is_table, ("alike", []))]
 

@@ -1,8 +1,10 @@
 import unittest
 
 from markedways.likeness import parting, within
+from markedways.nets import Net
 from markedways.programs import Program
 from markedways.rounds import most_marks, weakest_gate
+from markedways.slices import leak
 from markedways.ways import ways
 
 
@@ -16,6 +18,7 @@ class DocumentExamples(unittest.TestCase):
         self.assertEqual((walk.marks, walk.numbers), (2, (1, 2)))
         self.assertEqual(walk((1, 7)), [(1, 2), (1, 7), (2, 2), (2, 7)])
         self.assertEqual(ways(walk, (1, 7), 2), [((1, 7),), ((1, 7), (2, 7)), ((1, 7), (2, 7), (1, 2))])
+        self.assertEqual(leak(door, hall), ((1, 1), ((1, 1), (2, 1), (1, 2))))
 
     def test_few_and_all_ones(self):
         few, all_ones = Program(["a"], ("choice", ("is", "a", 1), ("is", "a", 2))), Program(["a"], ("pass",))
@@ -26,6 +29,12 @@ class DocumentExamples(unittest.TestCase):
         gate = weakest_gate(few, Program(["a"], ("is", "a", 2)))
         self.assertEqual(([gate.holds((n,)) for n in (0, 1, 2, 3)], most_marks(few, all_ones)),
                          ([True, True, False, True], 0))
+
+    def test_near_and_far(self):
+        near, far = ((("set", "at", 2),),), ((("set", "at", 3),),)
+        tables = {1: [(("pass",), (near, far))], 2: [(("pass",), (far,))], 3: []}
+        net = Net(["at", "to"], "at", tables, [(1, 2), (1, 3), (2, 3)])
+        self.assertEqual((net.hop((1, 9)), net.without(((1, 2),)).hop((1, 9))), ([(2, 9)], [(3, 9)]))
 
 
 if __name__ == "__main__":

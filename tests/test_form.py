@@ -13,9 +13,17 @@ INTERFACE = {
     "likeness": ["alike", "within", "has_ways", "parting", "beyond", "table", "is_table"],
     "machines": ["least_machine", "machine_ways"],
     "rounds": ["weakest_gate", "most_marks", "ring", "is_ring", "all_ways"],
+    "meeting": ["meets", "keeps", "dodging", "meeting_gate"],
+    "slices": ["leak", "are_apart", "sliced"],
+    "parts": ["part_at", "parts", "without", "idle_parts", "struck", "idle_lots"],
+    "nets": ["Net"],
 }
-METHODS = ["fields", "numbers", "tree", "marks", "__add__", "__rshift__", "__invert__", "loop", "__eq__", "__call__",
-           "holds"]
+METHODS = {
+    "programs": ("Program", ["fields", "numbers", "tree", "marks", "__add__", "__rshift__", "__invert__", "loop", "__eq__",
+                             "__call__", "holds"]),
+    "nets": ("Net", ["fields", "switches", "links", "switch_field", "__getitem__", "__iter__", "__eq__", "hop", "rides",
+                     "program", "without"]),
+}
 
 
 def module(name):
@@ -47,9 +55,11 @@ class Form(unittest.TestCase):
                 self.assertLessEqual(set(wanted), set(found))
 
     def test_methods_are_defined_in_the_class(self):
-        program = [row for row in module("programs").body if isinstance(row, ast.ClassDef) and row.name == "Program"]
-        found = [row.name for row in program[0].body if isinstance(row, ast.FunctionDef)]
-        self.assertLessEqual(set(METHODS), set(found))
+        for name, (kind, wanted) in METHODS.items():
+            classes = [row for row in module(name).body if isinstance(row, ast.ClassDef) and row.name == kind]
+            found = [row.name for row in classes[0].body if isinstance(row, ast.FunctionDef)]
+            with self.subTest(kind):
+                self.assertLessEqual(set(wanted), set(found))
 
     def test_sizes(self):
         for path in FOLDER.glob("*.py"):
