@@ -87,11 +87,34 @@ def a_plain_net(chance, most_fields=3):
     fields = ["at", "b", "c"][:chance.choice(range(1, most_fields + 1))]
     switches = chance.sample(range(10), chance.choice((1, 2, 2, 3, 3, 3, 4, 4, 4)))
     numbers = sorted(set(switches) | set(chance.sample(range(10), 2)))
-    tables = {switch: [a_rule(chance, fields, numbers, switches, "at") for _ in range(chance.choice((0, 1, 2, 2, 3, 4)))]
+    tables = {switch: [a_rule(chance, fields, numbers, switches,
+                              "at") for _ in range(chance.choice((0, 1, 2, 2, 3, 4)))]
               for switch in switches}
     links = [pair for pair in itertools.permutations(switches, 2) if chance.random() < 0.85]
     chance.shuffle(links)
     return Plain(fields, "at", tables, links)
+
+
+def a_linked_net(chance):
+    """The parts of a net with rules that mostly lead on, of two fields."""
+    switches = chance.sample(range(10), chance.choice((3, 4, 4)))
+
+    def action():
+        steps = [("set", "at", chance.choice(switches))]
+        if chance.random() < 0.3:
+            steps.insert(chance.randrange(2),
+                         chance.choice((("set", "b", chance.choice(switches)), ("take", "b", "at"))))
+        return (("take", "at", "b"),) if chance.random() < 0.1 else tuple(steps)
+
+    def rule(test):
+        return (test, tuple(tuple(action() for _ in range(chance.choice((1, 2, 2)))) for _ in range(2)))
+
+    tables = {}
+    for switch in switches:
+        some = [rule(("is", "b", chance.choice(switches))) for _ in range(chance.choice((0, 0, 1)))]
+        tables[switch] = some + [rule(("pass",))]
+    links = [pair for pair in itertools.permutations(switches, 2) if chance.random() < 0.6]
+    return Plain(["at", "b"], "at", tables, links)
 
 
 def greatest_net(chance):

@@ -2,20 +2,25 @@ import copy
 import unittest
 
 from markedways.errors import BadProgram, OtherFields, TooMany
+from markedways.failures import passing_by, stranding
 from markedways.likeness import alike, beyond, has_ways, is_table, parting, table, within
+from markedways.live import first_wrong, replayed
 from markedways.machines import least_machine, machine_ways
 from markedways.meeting import dodging, keeps, meeting_gate, meets
 from markedways.parts import idle_lots, idle_parts, part_at, parts, struck, without
 from markedways.programs import Program
 from markedways.rounds import all_ways, is_ring, most_marks, ring, weakest_gate
 from markedways.slices import are_apart, leak, sliced
+from markedways.texts import program_text, read_program, read_tree, tree_text
 from markedways.ways import ends, is_way, steps, ways
 from samplers import MARK, PASS, at, choice, loop, pair, put, row, solo, trio, walk
+from test_nets import net
 from test_programs import raised
 from values import no_programs
 
 # Each function with its parameters and, for them, arguments that it takes.
 ANY = Program(["at", "tag"], PASS)
+NETS = Program(["at", "to"], PASS)
 START = ((0,), (0,))
 CALLS = [
     (ways, ["program", "packet", "most"], [walk(), (1, 7), 2]),
@@ -48,6 +53,14 @@ CALLS = [
     (idle_parts, ["program"], [walk() + walk()]),
     (struck, ["program", "lot"], [walk(), ((0, 0), (0, 1))]),
     (idle_lots, ["program"], [walk() + walk()]),
+    (stranding, ["net", "source", "goal", "most"], [net(), NETS, NETS, 1]),
+    (passing_by, ["net", "source", "goal", "via", "most"], [net(), NETS, NETS, [NETS], 1]),
+    (first_wrong, ["net", "journal"], [net(), [("cut", (1, 2)), ("undo",), ("cut", [1, 2])]]),
+    (replayed, ["net", "journal"], [net(), [("cut", (1, 2)), ("undo",), ("strike", 1, 0)]]),
+    (tree_text, ["tree"], [walk().tree]),
+    (read_tree, ["text"], ["(a=1; mark)*"]),
+    (program_text, ["program"], [walk()]),
+    (read_program, ["text"], ["fields a\n(a=1; mark)*\n"]),
 ]
 PAIRS = [(alike, ()), (within, ()), (parting, ()), (beyond, ()), (table, ("alike",)), (is_table, ("alike", []))]
 

@@ -7,7 +7,8 @@ from markedways.likeness import alike
 from markedways.parts import idle_lots, idle_parts, parts, struck, without
 from markedways.programs import Program
 from oracle import a_program
-from samplers import (DROP, MARK, PASS, at, choice, counter, loop, odometer, pair, put, row, six_marks, solo, take, trio,
+from samplers import (DROP, MARK, PASS, at, choice, counter, loop, odometer, pair, put, row, six_marks, solo, take,
+                      trio,
                       varied, walk)
 from test_parts import all_paths
 from test_programs import raised
@@ -68,7 +69,8 @@ class IdleParts(unittest.TestCase):
         self.assertEqual(idle_parts(solo(choice(at("a", 1), at("a", 2)))), [])
         self.assertEqual(idle_parts(solo(row(("not", at("a", 1)), ("not", at("a", 2))))), [])
         self.assertEqual(idle_parts(trio(choice(take("a", "b"), take("a", "c")))), [])
-        self.assertEqual(idle_parts(trio(choice(row(take("b", "c"), take("a", "b")), row(take("a", "c"), take("b", "c")),
+        self.assertEqual(idle_parts(trio(choice(row(take("b", "c"), take("a", "b")),
+                                                row(take("a", "c"), take("b", "c")),
                                                 row(take("b", "c"), put("b", 1), take("b", "c"), take("a", "c"))))),
                          [(0,), (1,), (2,), (2, 0), (2, 1)])
 
@@ -139,7 +141,8 @@ class IdleLots(unittest.TestCase):
                          [((0, 0), (0, 1), (1, 1)), ((0, 1), (1, 0), (1, 1)), ((0,), (1, 1)), ((0, 1), (1,))])
 
     def test_alternatives_within_tests_and_loops(self):
-        self.assertEqual(idle_lots(solo(row(("not", choice(at("a", 1), at("a", 1))), MARK))), [((0, 0, 0),), ((0, 0, 1),)])
+        self.assertEqual(idle_lots(solo(row(("not", choice(at("a", 1), at("a", 1))), MARK))),
+                         [((0, 0, 0),), ((0, 0, 1),)])
         self.assertEqual(idle_lots(solo(loop(choice(A, A)))), [((0, 0),), ((0, 1),)])
         self.assertEqual(idle_lots(solo(row(loop(choice(A, put("a", 3))), at("a", 1)))), [((0, 0, 1),)])
         self.assertEqual(idle_lots(solo(row(loop(choice(A, put("a", 1))), at("a", 1)))), [()])
@@ -186,7 +189,8 @@ class IdleLots(unittest.TestCase):
     def test_greater_programs(self):
         self.assertEqual(idle_lots(walk()), [()])
         self.assertEqual(idle_lots(counter(6)), [((1, 0, 0, 5),)])
-        program = pair(row(loop(choice(A, row(A, put("b", 1)))), choice(C, row(C, loop(MARK)), loop(choice(MARK, DROP)))))
+        program = pair(row(loop(choice(A, row(A, put("b", 1)))),
+                           choice(C, row(C, loop(MARK)), loop(choice(MARK, DROP)))))
         self.assertEqual(idle_lots(program), greatest_lots(program))
         raised(TooMany, idle_lots, six_marks())
 

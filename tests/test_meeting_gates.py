@@ -140,14 +140,16 @@ class MeetingGate(unittest.TestCase):
                     self.assertEqual(self.holding(trio(tree), trio(PASS), [filtering], packets), good)
         every = samples(["a", "b", "c"], [1, 8])
         full = trio(row(*[at(field, 8) for field in "abc"]))
-        self.assertEqual(self.holding(odometer(8), trio(PASS), [trio(at("c", 3)), trio(at("b", 5)), full], every), every)
+        self.assertEqual(self.holding(odometer(8), trio(PASS), [trio(at("c", 3)), trio(at("b", 5)), full], every),
+                         every)
         self.assertEqual(self.holding(odometer(8), trio(PASS), [full, trio(at("c", 3))], every), [])
 
     def test_equal_gates_for_equal_arguments(self):
         program = six_marks()
         via = [pair(at("a", 2)), pair(at("b", 1))]
         one = meeting_gate(program, pair(at("a", 2)), via)
-        self.assertEqual(one, meeting_gate(Program(["b", "a"], program.tree), Program(("b", "a"), at("a", 2)), tuple(via)))
+        self.assertEqual(one,
+                         meeting_gate(Program(["b", "a"], program.tree), Program(("b", "a"), at("a", 2)), tuple(via)))
 
     def test_wrong_arguments(self):
         program, fine = walk(), Program(["at", "tag"], PASS)
@@ -167,7 +169,8 @@ class MeetingGate(unittest.TestCase):
     def test_too_many_numbers_behind_all_other_errors(self):
         eight = solo(choice(*[at("a", number) for number in range(8)]))
         fine, more = solo(at("a", 7)), solo(at("a", 8))
-        for things in ((eight, more, [fine]), (more, eight, [fine]), (eight, fine, [fine, more]), (fine, fine, [eight, more])):
+        for things in ((eight, more, [fine]), (more, eight, [fine]), (eight, fine, [fine, more]),
+                       (fine, fine, [eight, more])):
             error = raised(TooMany, meeting_gate, *things)
             self.assertEqual((error.what, error.most), ("numbers", 8))
             raised(BadTests, meeting_gate, *things[:2], [*things[2], None])

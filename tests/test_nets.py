@@ -34,11 +34,13 @@ def of_rule(rule):
 GOOD_RULES = [
     (PASS, ()), (DROP, (((),),)), (PASS, (((), ()),)), (PASS, ((GO, GO), (GO, ()))), (("is", "b", 8), ()),
     (PASS, ((GO * 3,), (GO * 3, GO * 3))), (PASS, (((("take", "a", "at"),),),)),
-    (("row",) + (PASS,) * 11, ()), (nested(["not"], 4), ()), (nested(["row"], 4), ()), (("not", ("row",) + (PASS,) * 10), ()),
+    (("row",) + (PASS,) * 11, ()), (nested(["not"], 4), ()), (nested(["row"], 4), ()),
+    (("not", ("row",) + (PASS,) * 10), ()),
 ]
 BAD_RULES = [
     (), (PASS,), (PASS, (), ()), [PASS, ()], PASS, (PASS, []), (PASS, None), (PASS, 0), (PASS, {}), (["pass"], ()),
-    (MARK, ()), (("set", "a", 1), ()), (("loop", PASS), ()), (("take", "a", "b"), ()), (None, ()), ("pass", ()), ((), ()),
+    (MARK, ()), (("set", "a", 1), ()), (("loop", PASS), ()), (("take", "a", "b"), ()), (None, ()), ("pass", ()),
+    ((), ()),
     (("row",) + (PASS,) * 12, ()), (nested(["not"], 5), ()), (nested(["choice"], 5), ()),
     (("not", ("not", ("not", ("row", PASS, PASS)))), ()), (("row", PASS, ("not", ("row",) + (PASS,) * 9)), ()),
     (("is", "c", 1), ()), (("row", PASS, ("is", "c", 1)), ()), (("is", "a", True), ()), (("is", "a", -1), ()),
@@ -134,7 +136,8 @@ class Equality(unittest.TestCase):
     def test_all_parts(self):
         self.assertTrue(net() == net())
         self.assertFalse(net() != net())
-        for other in (net(fields=["at", "to", "b"]), net(links=LINKS[:1]), net(links=[]), net(tables={1: [RULE], 2: []}),
+        for other in (net(fields=["at", "to", "b"]), net(links=LINKS[:1]), net(links=[]),
+                      net(tables={1: [RULE], 2: []}),
                       net(tables={1: tables()[1][::-1], 2: []}), net(tables={**tables(), 3: []}),
                       net(tables={**tables(), 2: [RULE]}), net(tables={1: [], 2: []})):
             self.assertFalse(net() == other)
@@ -166,9 +169,11 @@ class WrongParts(unittest.TestCase):
 
     def test_no_tables(self):
         for thing in odd_values() + [
-                {}, {True: [], 2: []}, {False: []}, {-1: []}, {10: []}, {"1": []}, {None: []}, {(1,): []}, {1: [], "b": []},
+                {}, {True: [], 2: []}, {False: []}, {-1: []}, {10: []}, {"1": []}, {None: []}, {(1,): []},
+                {1: [], "b": []},
                 dict.fromkeys(range(5), ()), {1: None}, {1: {}}, {1: RULE, 2: "ab"}, {1: [], 2: 0}, {1: [RULE] * 5},
-                {1: (RULE,) * 5}, {1: [], 2: [None] * 5}, [(1, []), (2, [])], [[], []], ((1, ()),), "12", {10 ** 99: []},
+                {1: (RULE,) * 5}, {1: [], 2: [None] * 5}, [(1, []), (2, [])], [[], []], ((1, ()),), "12",
+                {10 ** 99: []},
                 {1: {0: RULE}}, {1: [], 2: net()}]:
             if not isinstance(thing, dict) or list(thing) != [1]:
                 with self.subTest(thing):
@@ -190,8 +195,10 @@ class WrongParts(unittest.TestCase):
     def test_no_links(self):
         for thing in odd_values() + [
                 [(1, 2), (1, 2)], [(1, 2), (2, 1), (1, 2)], [(1, 1)], [(2, 2), (1, 2)], [(1, 3)], [(3, 1)], [[1, 2]],
-                [(1, 2), [2, 1]], [(1, 2, 1)], [(1,)], [()], [(True, 2)], [(2, True)], [("1", 2)], [(1, None)], [(1, -2)],
-                (1, 2), {(1, 2): True}, {1: 2}, "12", None, 12, [1, 2], ((1, 2), 2), [(1, (2,))], [(1, [2])], [({}, 2)]]:
+                [(1, 2), [2, 1]], [(1, 2, 1)], [(1,)], [()], [(True, 2)], [(2, True)], [("1", 2)], [(1, None)],
+                [(1, -2)],
+                (1, 2), {(1, 2): True}, {1: 2}, "12", None, 12, [1, 2], ((1, 2), 2), [(1, (2,))], [(1, [2])],
+                [({}, 2)]]:
             if thing not in ((), []):
                 with self.subTest(thing):
                     self.assertEqual(raised(BadNet, net, links=thing).part, "links")
@@ -206,7 +213,8 @@ class WrongParts(unittest.TestCase):
             self.assertEqual((error.what, error.most), ("numbers", 8))
             self.assertEqual(raised(BadNet, net, tables=tables_too, links=None).part, "links")
         self.assertEqual(net(tables={1: named(*range(2, 9))}, links=[]).switches, (1,))
-        self.assertEqual(net(tables={1: named(5, 6, 7), 2: named(8), 3: named(1, 2), 4: []}, links=[]).switches, (1, 2, 3, 4))
+        self.assertEqual(net(tables={1: named(5, 6, 7), 2: named(8), 3: named(1, 2), 4: []}, links=[]).switches,
+                         (1, 2, 3, 4))
 
     def test_several_things_at_once(self):
         wrong = {"fields": None, "at": "c", "tables": {1: [], 11: []}, "links": [(1, 1)]}
@@ -235,7 +243,8 @@ class Without(unittest.TestCase):
     def test_no_lots(self):
         for thing in odd_values() + [
                 [], [(1, 2)], ((2, 1), (1, 2)), ((1, 2), (1, 2)), ((1, 3),), ((2, 2),), ((True, 2),), ([1, 2],), (1, 2),
-                ((1, 2, 3),), ((1,),), ((),), ((1, 2), None), {(1, 2): 1}, "", None, ((1, 2), (2, 1), (2, 1)), ((0, 1),),
+                ((1, 2, 3),), ((1,),), ((),), ((1, 2), None), {(1, 2): 1}, "", None, ((1, 2), (2, 1), (2, 1)),
+                ((0, 1),),
                 ((1, 2), (2, "1")), ((1, 2), [2, 1]), (((1, 2),),)]:
             if thing != ():
                 with self.subTest(thing):

@@ -23,7 +23,8 @@ TREES = {
 PARTS = [(0,), (0, 0), (0, 1), (0, 1, 0, 0), (0, 1, 0, 1), (0, 1, 0, 1, 0), (0, 1, 0, 1, 1), (0, 2), (1,), (1, 0, 0),
          (1, 0, 1), (1, 0, 1, 0), (1, 0, 1, 1), (2,)]
 ALTERNATIVES = [(0, 0), (0, 1), (0, 1, 0, 0), (0, 1, 0, 1), (0, 2), (1, 0, 0), (1, 0, 1)]
-NO_PATHS = [[0], [], (True,), (False,), (0, False), (-1,), (0, -1), (3,), (10 ** 99,), (0, 3), (0, 0, 0), (2, 0), (2, 1),
+NO_PATHS = [[0], [], (True,), (False,), (0, False), (-1,), (0, -1), (3,), (10 ** 99,), (0, 3), (0, 0, 0), (2, 0),
+            (2, 1),
             (0, 1, 1), (1, 1), (1, 0, 0, 0), (0, 1, 0, 1, 1, 0, 0), (None,), ("0",), (0, "0"), ((0,),), (0, (0,)),
             (0, [0]), "0", "", 0, 1, None, True, {0: 0}, (0, None), (0, 1, 0, 1, 0, 1)]
 
@@ -77,7 +78,8 @@ class PartAt(unittest.TestCase):
             self.assertEqual(raised(NoPart, part_at, program, path).path, path)
 
     def test_no_paths(self):
-        for path in NO_PATHS + [thing for thing in odd_values() if thing != ()] + [tree for tree in NEARLY if tree not in ((), (0,))]:
+        others = [thing for thing in odd_values() + NEARLY if thing not in ((), (0,))]
+        for path in NO_PATHS + others:
             with self.subTest(path):
                 self.assertEqual(raised(NoPart, part_at, pair(TREE), path).path, path)
 
@@ -199,7 +201,8 @@ class Struck(unittest.TestCase):
     def test_no_lots(self):
         program = pair(TREE)
         for lot in [thing for thing in odd_values() if thing != ()] + [
-                [], [(0, 0)], ([0, 0],), ((0, 0), [0, 2]), ((0, 2), (0, 0)), ((0, 0), (0, 0)), ((0, 0), (0, 1), (0, 1, 0, 0)),
+                [], [(0, 0)], ([0, 0],), ((0, 0), [0, 2]), ((0, 2), (0, 0)), ((0, 0), (0, 0)),
+                ((0, 0), (0, 1), (0, 1, 0, 0)),
                 ((0,),), ((1, 0, 1, 0),), ((0, 1, 0, 1, 0),), ((1, 0),), ((),), (0, 0), ((0, 3),), ((0, True),),
                 ((0, 0), None), ((0, 0), 2), ((0, -1),), ((False, 0),), ((0, 0), "2"), {(0, 0): True}, "", ((0, 0, 0),),
                 ((0, 0), ((0, 2),)), ((1, 0, 1), (0, 0))]:

@@ -44,7 +44,8 @@ class Hop(unittest.TestCase):
             self.assertEqual(one.hop(packet), [])
 
     def test_the_first_group_with_an_open_action(self):
-        for links, wanted in ((ALL, [(2, 8)]), ([(1, 3)], [(3, 9)]), ([(2, 1), (3, 1)], []), ([], []), ([(1, 2)], [(2, 8)])):
+        for links, wanted in ((ALL, [(2, 8)]), ([(1, 3)], [(3, 9)]), ([(2, 1), (3, 1)], []), ([], []),
+                              ([(1, 2)], [(2, 8)])):
             one = one_table((PASS, ((go(2, ("set", "b", 8)),), (go(3, ("set", "b", 9)),))), links=links)
             self.assertEqual(one.hop((1, 5)), wanted)
 
@@ -86,7 +87,8 @@ class Hop(unittest.TestCase):
         counts = {}
         for _ in range(400):
             plain = a_plain_net(chance)
-            plain = plain.failing(chance.sample(plain.links, chance.randrange(len(plain.links) + 1)) if plain.links else ())
+            plain = plain.failing(chance.sample(plain.links,
+                                                chance.randrange(len(plain.links) + 1)) if plain.links else ())
             one = plain.net()
             for _ in range(20):
                 packet = a_packet(chance, plain.names, [*one.switches, *one.switches, *one.switches, *range(11)])
@@ -177,7 +179,9 @@ class Programs(unittest.TestCase):
     def test_links_that_are_open_by_a_number_of_the_packet(self):
         one = one_table((PASS, (((("take", "at", "b"),),), (go(2),))))
         links = choice(at("b", 2), at("b", 3))
-        wanted = choice(PASS, row(at("at", 1), choice(row(links, take("at", "b")), row(("not", links), ("set", "at", 2))), MARK))
+        wanted = choice(PASS,
+                        row(at("at", 1), choice(row(links, take("at", "b")), row(("not", links), ("set", "at", 2))),
+                            MARK))
         self.assertTrue(alike(self.program_of(one), Program(["at", "b"], wanted)))
 
     def test_its_ways_are_the_rides(self):

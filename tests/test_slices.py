@@ -130,7 +130,8 @@ class Sliced(unittest.TestCase):
         self.assertEqual(sliced(pair(MARK), into, out).tree, row(at("a", 1), MARK, ("not", at("b", 2))))
         self.assertEqual(sliced(pair(FLIP), into, out).tree, row(at("a", 1), *FLIP[1:], ("not", at("b", 2))))
         several = pair(row(at("a", 1), at("b", 2)))
-        self.assertEqual(sliced(pair(MARK), several, several).tree, row(at("a", 1), at("b", 2), MARK, at("a", 1), at("b", 2)))
+        self.assertEqual(sliced(pair(MARK), several, several).tree,
+                         row(at("a", 1), at("b", 2), MARK, at("a", 1), at("b", 2)))
 
     def test_what_it_makes(self):
         program = sliced(pair(choice(put("a", 2), MARK)), pair(at("a", 1)), pair(at("b", 5)))
@@ -205,7 +206,8 @@ class WrongArguments(unittest.TestCase):
         low = pair(choice(*[at("a", number) for number in range(5)]))
         high = pair(choice(*[put("b", number) for number in range(5, 9)]))
         great = pair(row(*[PASS] * 2500))
-        for one, other, what, most in ((five, two, "marks", 6), (low, high, "numbers", 8), (great, great, "trees", 4000)):
+        for one, other, what, most in ((five, two, "marks", 6), (low, high, "numbers", 8),
+                                       (great, great, "trees", 4000)):
             for work in (leak, are_apart):
                 for things in ((one, other), (other, one)):
                     error = raised(TooMany, work, *things)
