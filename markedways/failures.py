@@ -55,7 +55,6 @@ class Traffic:
         for packet in self.ground.members:
             groups = outcomes(net, packet)
             self.chances.append([[(pair, slots[target]) for pair, target in group] for group in groups])
-        self.targets = []
         self.fail(())
 
     def fail(self, lot):

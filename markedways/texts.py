@@ -2,12 +2,12 @@
 
 from markedways.errors import BadText, BadTree
 from markedways.packets import MOST_FIELDS, is_field
-from markedways.programs import MOST_LEVELS, Program, all_trees, has_fields, is_tree, need_program
+from markedways.programs import Program, all_trees, has_fields, is_tree, need_program
 
 # The trees that stand in parentheses within a tree of this word.
 ENCLOSED = {"choice": ("choice",), "row": ("row", "choice"), "not": ("row", "choice"), "loop": ("row", "choice", "not")}
-# Each tree around another one brings one pair of parentheses at most.
-MOST_STAGES = 2 * MOST_LEVELS
+# Twelve levels of trees, each with one pair of parentheses at most.
+MOST_STAGES = 24
 
 
 def tree_text(tree):
