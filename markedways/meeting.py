@@ -3,7 +3,7 @@
 from markedways.errors import BadPacket, BadTests
 from markedways.likeness import Search
 from markedways.packets import ascending_fields, is_list, is_packet, samples
-from markedways.programs import (Program, is_test, joint_numbers, need_fields, need_test, satisfies, satisfying)
+from markedways.programs import Program, is_test, joint_numbers, need_fields, need_test, satisfies, satisfying
 from markedways.rounds import gate, need_program_and_test
 from markedways.ways import courses_from
 
